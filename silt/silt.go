@@ -1,0 +1,49 @@
+// Package silt: a tree whose leaves are told later: see DOC.md.
+package silt
+
+import (
+	"silt/api"
+	"silt/giveup"
+	"silt/squeeze"
+)
+
+// Squeeze squeezes bytes (P2).
+func Squeeze(s string) string { return squeeze.Squeeze(s) }
+
+// Spread spreads what was squeezed (P2).
+func Spread(s string) (string, api.Errno) {
+	return giveup.Catch(func() string { return squeeze.Spread(s) })
+}
+
+// Write writes a node's page (P3).
+func Write(n api.Node) (string, api.Errno) { return "", api.OK }
+
+// Read reads a page (P3).
+func Read(page string) (api.Node, api.Errno) { return api.Node{}, api.OK }
+
+// Fetch looks for a key in a leaf's page, in one basement (P4).
+func Fetch(page, key string) (string, api.Errno) { return "", api.OK }
+
+// Renew makes today's page of an old one (P5).
+func Renew(page string) (string, api.Errno) { return "", api.OK }
+
+// Tree keeps keys and values.
+type Tree struct{}
+
+// New makes an empty tree (P6).
+func New() *Tree { return nil }
+
+// Make makes a change (P6).
+func (t *Tree) Make(c api.Change) api.Errno { return api.OK }
+
+// Get tells a key's value (P6).
+func (t *Tree) Get(key string) (string, api.Errno) { return "", api.OK }
+
+// Scan tells the items from one key to another (P6).
+func (t *Tree) Scan(from, to string) ([]api.Item, api.Errno) { return nil, api.OK }
+
+// Image tells the tree's pages (P7).
+func (t *Tree) Image() []string { return nil }
+
+// Load makes a tree of pages (P7).
+func Load(image []string) (*Tree, api.Errno) { return nil, api.OK }
