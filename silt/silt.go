@@ -4,6 +4,8 @@ package silt
 import (
 	"silt/api"
 	"silt/giveup"
+	"silt/pages"
+	"silt/rules"
 	"silt/squeeze"
 )
 
@@ -16,16 +18,35 @@ func Spread(s string) (string, api.Errno) {
 }
 
 // Write writes a node's page (P3).
-func Write(n api.Node) (string, api.Errno) { return "", api.OK }
+func Write(n api.Node) (string, api.Errno) {
+	if !rules.IsNode(n) {
+		return "", api.ErrArg
+	}
+	return pages.Write(n), api.OK
+}
 
 // Read reads a page (P3).
-func Read(page string) (api.Node, api.Errno) { return api.Node{}, api.OK }
+func Read(page string) (api.Node, api.Errno) {
+	return giveup.Catch(func() api.Node { return pages.Read(page) })
+}
 
 // Fetch looks for a key in a leaf's page, in one basement (P4).
-func Fetch(page, key string) (string, api.Errno) { return "", api.OK }
+func Fetch(page, key string) (string, api.Errno) {
+	found := false
+	value, e := giveup.Catch(func() (value string) {
+		value, found = pages.Fetch(page, key)
+		return value
+	})
+	if e == api.OK && !found {
+		e = api.ErrNone
+	}
+	return value, e
+}
 
 // Renew makes today's page of an old one (P5).
-func Renew(page string) (string, api.Errno) { return "", api.OK }
+func Renew(page string) (string, api.Errno) {
+	return giveup.Catch(func() string { return pages.Renew(page) })
+}
 
 // Tree keeps keys and values.
 type Tree struct{}
