@@ -2,11 +2,14 @@
 package silt
 
 import (
+	"sync"
+
 	"silt/api"
 	"silt/giveup"
 	"silt/pages"
 	"silt/rules"
 	"silt/squeeze"
+	"silt/tree"
 )
 
 // Squeeze squeezes bytes (P2).
@@ -49,22 +52,55 @@ func Renew(page string) (string, api.Errno) {
 }
 
 // Tree keeps keys and values.
-type Tree struct{}
+type Tree struct {
+	mutex sync.Mutex
+	kept  *tree.Tree
+}
 
 // New makes an empty tree (P6).
-func New() *Tree { return nil }
+func New() *Tree { return &Tree{kept: tree.New()} }
 
 // Make makes a change (P6).
-func (t *Tree) Make(c api.Change) api.Errno { return api.OK }
+func (t *Tree) Make(c api.Change) api.Errno {
+	t.mutex.Lock()
+	defer t.mutex.Unlock()
+	if !rules.IsChange(c) {
+		return api.ErrArg
+	}
+	t.kept.Make(c)
+	return api.OK
+}
 
 // Get tells a key's value (P6).
-func (t *Tree) Get(key string) (string, api.Errno) { return "", api.OK }
+func (t *Tree) Get(key string) (string, api.Errno) {
+	t.mutex.Lock()
+	defer t.mutex.Unlock()
+	value, ok := t.kept.Get(key)
+	if !ok {
+		return "", api.ErrNone
+	}
+	return value, api.OK
+}
 
 // Scan tells the items from one key to another (P6).
-func (t *Tree) Scan(from, to string) ([]api.Item, api.Errno) { return nil, api.OK }
+func (t *Tree) Scan(from, to string) ([]api.Item, api.Errno) {
+	t.mutex.Lock()
+	defer t.mutex.Unlock()
+	return t.kept.Scan(from, to), api.OK
+}
 
 // Image tells the tree's pages (P7).
-func (t *Tree) Image() []string { return nil }
+func (t *Tree) Image() []string {
+	t.mutex.Lock()
+	defer t.mutex.Unlock()
+	return t.kept.Image()
+}
 
 // Load makes a tree of pages (P7).
-func Load(image []string) (*Tree, api.Errno) { return nil, api.OK }
+func Load(image []string) (*Tree, api.Errno) {
+	kept, e := giveup.Catch(func() *tree.Tree { return tree.Load(image) })
+	if e != api.OK {
+		return nil, e
+	}
+	return &Tree{kept: kept}, api.OK
+}
